@@ -1,0 +1,1 @@
+"""Restform: polynomials known by the rests they leave."""
