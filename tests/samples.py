@@ -14,18 +14,23 @@ def figures(size, seed):
 TWELVE = figures(12, 7)
 OTHER_TWELVE = figures(12, 3)
 
-POLYNOMIALS = [
-    [], [0], [0, 0, 0], [1], [1, 0], [-1], [5], [-5, 0, 0], [0, 1], [0, -1], [0, 1, 0], [1, 1], [-1, 1],
-    [1, -1], [0, 0, 1], [0, 0, -1], [3, 0, 0, 2], [-3, 0, 0, -2], [0, 0, 0, 0, 7, 0], [2, -4, 6, -8],
-    [1, 1, 1, 1, 1, 1, 1, 1, 1, 1, 1, 1], [0, 0, 0, 0, 0, 0, 0, 0, 0, 0, 0, 1],
-    [1, 0, 0, 0, 0, 0, 0, 0, 0, 0, 0, 0], [SIXTY], [-SIXTY, SIXTY], [SIXTY, -SIXTY],
-    [-count for count in TWELVE], TWELVE, OTHER_TWELVE,
-]
 
-FALLS = POLYNOMIALS + [
-    list(range(1, 61)), [0] * 59 + [1], [0] * 59 + [-SIXTY], [1] + [0] * 59, [0] * 60,
-    figures(13, 11), figures(33, 7), figures(59, 3) + [0], figures(60, 7),
-]
+# Made anew for each asker: a fault that changes a list handed in must not hide behind a spoilt sample.
+def polynomials():
+    return [
+        [], [0], [0, 0, 0], [1], [1, 0], [-1], [5], [-5, 0, 0], [0, 1], [0, -1], [0, 1, 0], [1, 1], [-1, 1],
+        [1, -1], [0, 0, 1], [0, 0, -1], [3, 0, 0, 2], [-3, 0, 0, -2], [0, 0, 0, 0, 7, 0], [2, -4, 6, -8],
+        [1, 1, 1, 1, 1, 1, 1, 1, 1, 1, 1, 1], [0, 0, 0, 0, 0, 0, 0, 0, 0, 0, 0, 1],
+        [1, 0, 0, 0, 0, 0, 0, 0, 0, 0, 0, 0], [SIXTY], [-SIXTY, SIXTY], [SIXTY, -SIXTY],
+        [-count for count in figures(12, 7)], figures(12, 7), figures(12, 3),
+    ]
+
+
+def falls_lists():
+    return polynomials() + [
+        list(range(1, 61)), [0] * 59 + [1], [0] * 59 + [-SIXTY], [1] + [0] * 59, [0] * 60,
+        figures(13, 11), figures(33, 7), figures(59, 3) + [0], figures(60, 7),
+    ]
 
 
 def plain_at(some, x):

@@ -3,8 +3,8 @@ import unittest
 from restform.falling import at_falls, falls, unfolded
 from restform.polys import at, times
 from tests.samples import (
-    FALLS, OTHER_TWELVE, PLACES, POLYNOMIALS, SIXTY, TWELVE, falling_product, is_told_list, plain_at,
-    plain_at_falls, without_end,
+    OTHER_TWELVE, PLACES, SIXTY, TWELVE, falling_product, falls_lists, figures, is_told_list, plain_at,
+    plain_at_falls, polynomials, without_end,
 )
 
 
@@ -49,11 +49,11 @@ class Falls(unittest.TestCase):
             self.assertEqual(falls(empty), [])
 
     def test_noughts_at_the_end(self):
-        for some in POLYNOMIALS:
+        for some in polynomials():
             self.assertEqual(falls(some + [0, 0]), falls(some))
 
     def test_as_defined(self):
-        for some in POLYNOMIALS:
+        for some in polynomials():
             told = falls(some)
             self.assertTrue(is_told_list(told))
             self.assertEqual(told, falls_by_differences(some))
@@ -77,11 +77,11 @@ class Unfolded(unittest.TestCase):
 
     def test_noughts_at_the_end(self):
         self.assertEqual(unfolded([0, 1, 1, 0, 0]), [0, 0, 1])
-        for some in FALLS:
+        for some in falls_lists():
             self.assertEqual(unfolded(some + [0, 0]), unfolded(some))
 
     def test_as_defined(self):
-        for some in FALLS:
+        for some in falls_lists():
             told = unfolded(some)
             self.assertTrue(is_told_list(told))
             self.assertEqual(told, plain_unfolded(some))
@@ -90,12 +90,12 @@ class Unfolded(unittest.TestCase):
 
 class LeadBack(unittest.TestCase):
     def test_falls_then_unfolded(self):
-        for some in POLYNOMIALS:
+        for some in polynomials():
             self.assertEqual(unfolded(falls(some)), without_end(some))
             self.assertEqual(unfolded(falls(some) + [0, 0, 0]), without_end(some))
 
     def test_unfolded_then_falls(self):
-        for some in FALLS:
+        for some in falls_lists():
             self.assertEqual(falls(unfolded(some)), without_end(some))
 
     def test_each_falling_product_up_to_sixty_entries(self):
@@ -127,7 +127,7 @@ class AtFalls(unittest.TestCase):
             self.assertIs(type(number), int)
 
     def test_as_defined_and_alike_to_unfolded(self):
-        for some in FALLS:
+        for some in falls_lists():
             polynomial = unfolded(some)
             for x in PLACES:
                 number = at_falls(some, x)
@@ -137,7 +137,7 @@ class AtFalls(unittest.TestCase):
                 self.assertEqual(number, at_falls(some + [0, 0], x))
 
     def test_alike_to_the_polynomial_it_came_of(self):
-        for some in POLYNOMIALS:
+        for some in polynomials():
             for x in PLACES:
                 self.assertEqual(at_falls(falls(some), x), plain_at(some, x))
 
@@ -154,15 +154,15 @@ class HandedInAgain(unittest.TestCase):
             self.assertEqual(at_falls(told, x), plain_at(long, x))
 
     def test_told_again_and_again(self):
-        some = FALLS[-1]
+        some = figures(60, 7)
         for step in range(3):
             some = unfolded(some)
         for step in range(3):
             some = falls(some)
-        self.assertEqual(some, FALLS[-1])
+        self.assertEqual(some, figures(60, 7))
 
     def test_numbers_of_many_figures(self):
-        great = at_falls(FALLS[-1], SIXTY)
+        great = at_falls(figures(60, 7), SIXTY)
         self.assertGreater(abs(great), 10 ** 3000)
         self.assertEqual(at_falls([1, 1, 1], great), 1 + great * great)
         self.assertEqual(falls([0, 0, great]), [0, great, great])

@@ -4,12 +4,15 @@ import unittest
 
 from restform.falling import at_falls, falls, unfolded
 from restform.polys import at, plus, put_in, times
-from tests.samples import FALLS, POLYNOMIALS, figures
+from tests.samples import falls_lists, figures, polynomials
 
 OF_ONE = [falls, unfolded]
 OF_TWO = [plus, times, put_in]
 AT_A_PLACE = [at, at_falls]
-PAIRS = [(one, other) for one in POLYNOMIALS for other in POLYNOMIALS]
+
+
+def pairs():
+    return [(one, other) for one in polynomials() for other in polynomials()]
 
 
 def spoil(told):
@@ -23,7 +26,7 @@ def spoil(told):
 class HandedIn(unittest.TestCase):
     def test_of_one(self):
         for act in OF_ONE:
-            for some in FALLS:
+            for some in falls_lists():
                 handed = list(some)
                 told = act(handed)
                 self.assertEqual(handed, some)
@@ -31,7 +34,7 @@ class HandedIn(unittest.TestCase):
 
     def test_of_two(self):
         for act in OF_TWO:
-            for one, other in PAIRS:
+            for one, other in pairs():
                 left, right = list(one), list(other)
                 told = act(left, right)
                 self.assertEqual((left, right), (one, other))
@@ -40,7 +43,7 @@ class HandedIn(unittest.TestCase):
 
     def test_one_list_handed_in_twice(self):
         for act in OF_TWO:
-            for some in POLYNOMIALS:
+            for some in polynomials():
                 handed = list(some)
                 told = act(handed, handed)
                 self.assertEqual(handed, some)
@@ -49,7 +52,7 @@ class HandedIn(unittest.TestCase):
 
     def test_at_a_place(self):
         for act in AT_A_PLACE:
-            for some in FALLS:
+            for some in falls_lists():
                 handed = list(some)
                 act(handed, 3)
                 act(handed, -3)
@@ -59,7 +62,7 @@ class HandedIn(unittest.TestCase):
 class Told(unittest.TestCase):
     def test_of_one(self):
         for act in OF_ONE:
-            for some in FALLS:
+            for some in falls_lists():
                 handed = list(some)
                 told = act(handed)
                 kept = list(told)
@@ -70,7 +73,7 @@ class Told(unittest.TestCase):
 
     def test_of_two(self):
         for act in OF_TWO:
-            for one, other in PAIRS:
+            for one, other in pairs():
                 left, right = list(one), list(other)
                 told = act(left, right)
                 kept = list(told)
@@ -81,7 +84,7 @@ class Told(unittest.TestCase):
 
     def test_one_list_handed_in_twice(self):
         for act in OF_TWO:
-            for some in POLYNOMIALS:
+            for some in polynomials():
                 handed = list(some)
                 told = act(handed, handed)
                 kept = list(told)
@@ -94,7 +97,7 @@ class Told(unittest.TestCase):
             for some in ([], [0], [1], [0, 1], figures(12, 7)):
                 self.assertIsNot(act(some), act(some))
         for act in OF_TWO:
-            for one, other in PAIRS:
+            for one, other in pairs():
                 self.assertIsNot(act(one, other), act(one, other))
 
     def test_told_list_handed_in_again(self):
@@ -115,14 +118,14 @@ class Told(unittest.TestCase):
 class ChangedBehindTheCall(unittest.TestCase):
     def test_what_was_told_stays(self):
         for act in OF_ONE:
-            for some in FALLS:
+            for some in falls_lists():
                 handed = list(some)
                 told = act(handed)
                 kept = list(told)
                 spoil(handed)
                 self.assertEqual(told, kept)
         for act in OF_TWO:
-            for one, other in PAIRS:
+            for one, other in pairs():
                 left, right = list(one), list(other)
                 told = act(left, right)
                 kept = list(told)

@@ -2,7 +2,7 @@ import unittest
 
 from restform.polys import at, plus, put_in, times
 from tests.samples import (
-    OTHER_SIXTY, OTHER_TWELVE, PLACES, POLYNOMIALS, SIXTY, TWELVE, is_told_list, plain_at, without_end,
+    OTHER_SIXTY, OTHER_TWELVE, PLACES, SIXTY, TWELVE, is_told_list, plain_at, polynomials, without_end,
 )
 
 
@@ -26,7 +26,7 @@ class At(unittest.TestCase):
             self.assertIs(type(number), int)
 
     def test_noughts_at_the_end_change_nothing(self):
-        for some in POLYNOMIALS:
+        for some in polynomials():
             for x in PLACES:
                 self.assertEqual(at(some + [0], x), at(some, x))
                 self.assertEqual(at(some + [0, 0, 0], x), at(some, x))
@@ -38,7 +38,7 @@ class At(unittest.TestCase):
         self.assertEqual(at([0] * 11 + [-SIXTY], -OTHER_SIXTY), SIXTY * OTHER_SIXTY ** 11)
 
     def test_as_defined(self):
-        for some in POLYNOMIALS:
+        for some in polynomials():
             for x in PLACES:
                 number = at(some, x)
                 self.assertEqual(number, plain_at(some, x))
@@ -87,13 +87,13 @@ class Times(unittest.TestCase):
         self.assertEqual(times([-2], [1, -3]), [-2, 6])
 
     def test_empty_list(self):
-        for some in POLYNOMIALS:
+        for some in polynomials():
             for empty in ([], [0], [0, 0, 0]):
                 self.assertEqual(times(some, empty), [])
                 self.assertEqual(times(empty, some), [])
 
     def test_one(self):
-        for some in POLYNOMIALS:
+        for some in polynomials():
             for one in ([1], [1, 0]):
                 self.assertEqual(times(some, one), without_end(some))
                 self.assertEqual(times(one, some), without_end(some))
@@ -121,12 +121,12 @@ class PutIn(unittest.TestCase):
         self.assertEqual(put_in([-4, 0, 1], [-2]), [])
 
     def test_empty_first(self):
-        for some in POLYNOMIALS:
+        for some in polynomials():
             self.assertEqual(put_in([], some), [])
             self.assertEqual(put_in([0, 0], some), [])
 
     def test_empty_second(self):
-        for some in POLYNOMIALS:
+        for some in polynomials():
             self.assertEqual(put_in(some, []), without_end(some[:1]))
             self.assertEqual(put_in(some, [0, 0]), without_end(some[:1]))
 
@@ -134,13 +134,13 @@ class PutIn(unittest.TestCase):
         self.assertEqual(put_in([], []), [])
 
     def test_a_number_alone(self):
-        for some in POLYNOMIALS:
+        for some in polynomials():
             for number in (1, -1, 2, -5, SIXTY):
                 self.assertEqual(put_in([number], some), [number])
                 self.assertEqual(put_in(some, [number]), without_end([plain_at(some, number)]))
 
     def test_x(self):
-        for some in POLYNOMIALS:
+        for some in polynomials():
             for x in ([0, 1], [0, 1, 0]):
                 self.assertEqual(put_in(some, x), without_end(some))
                 self.assertEqual(put_in(x, some), without_end(some))
@@ -159,8 +159,8 @@ class Laws(unittest.TestCase):
         self.assertEqual(plain_at(made, x), number)
 
     def test_numbers_of_sum_product_and_put_in(self):
-        for one in POLYNOMIALS:
-            for other in POLYNOMIALS:
+        for one in polynomials():
+            for other in polynomials():
                 total, product, inner = plus(one, other), times(one, other), put_in(one, other)
                 for x in PLACES:
                     left, right = plain_at(one, x), plain_at(other, x)
@@ -169,14 +169,14 @@ class Laws(unittest.TestCase):
                     self.assertEqual(at(inner, x), at(one, at(other, x)))
 
     def test_told_lists_have_no_nought_at_the_end(self):
-        for one in POLYNOMIALS:
-            for other in POLYNOMIALS:
+        for one in polynomials():
+            for other in polynomials():
                 for told in (plus(one, other), times(one, other), put_in(one, other)):
                     self.assertTrue(is_told_list(told))
 
     def test_noughts_at_the_end_change_no_list(self):
-        for one in POLYNOMIALS:
-            for other in POLYNOMIALS:
+        for one in polynomials():
+            for other in polynomials():
                 for act in (plus, times, put_in):
                     plain = act(without_end(one), without_end(other))
                     self.assertEqual(act(one + [0, 0], other), plain)
