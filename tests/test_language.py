@@ -1,4 +1,4 @@
-"""Holds the package against those rules of LANGUAGE.md that can be read off the code."""
+"""Holds the package against a part of LANGUAGE.md: the rules below, as far as each test goes."""
 
 import ast
 import builtins
