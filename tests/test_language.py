@@ -200,5 +200,62 @@ class Code(unittest.TestCase):
                 self.assertNotIsInstance(node.args[0], ast.Call, place)
 
 
+class Own(unittest.TestCase):
+    """The program's own classes, names and errors (L13, L15, L18, L19 and L24, in part)."""
+
+    def test_no_local_is_called_like_a_class_or_an_import(self):
+        for path in code_files():
+            body = ast.parse(path.read_text()).body
+            taken = {node.name for node in body if isinstance(node, ast.ClassDef)}
+            taken |= {alias.name for node in body if isinstance(node, ast.ImportFrom) for alias in node.names}
+            for part in body:
+                for node in ast.walk(part):
+                    if isinstance(node, (ast.arg, ast.Name)):
+                        self.assertFalse(taken & set(bound_names(node)), f"{path.name}:{node.lineno}")
+
+    def test_no_name_is_a_method_and_a_value(self):
+        methods, values = set(), set()
+        for place, node in each_node():
+            if isinstance(node, ast.ClassDef):
+                names = [part.name for part in node.body if isinstance(part, ast.FunctionDef)]
+                self.assertEqual(len(names), len(set(names)), place)
+                methods |= set(names)
+            if isinstance(node, ast.Attribute) and isinstance(node.ctx, ast.Store):
+                values.add(node.attr)
+        self.assertEqual(methods & values, set())
+
+    def test_classes_are_called_or_named_only(self):
+        classes = {node.name for place, node in each_node() if isinstance(node, ast.ClassDef)}
+        for path in code_files():
+            tree = ast.parse(path.read_text())
+            used, named = [], []
+            for node in ast.walk(tree):
+                if isinstance(node, ast.Name) and node.id in classes:
+                    named.append(node)
+                if isinstance(node, ast.Call):
+                    used.append(node.func)
+                if isinstance(node, ast.Call) and getattr(node.func, "id", "") == "isinstance":
+                    used += ast.walk(node.args[1])
+                if isinstance(node, ast.ClassDef):
+                    used += node.bases
+                if isinstance(node, ast.ExceptHandler):
+                    used += ast.walk(node.type)
+            for node in named:
+                self.assertIn(node, used, f"{path.name}:{node.lineno}")
+
+    def test_errors_are_made_on_the_spot_and_taken_by_name(self):
+        for place, node in each_node():
+            if isinstance(node, ast.Raise):
+                self.assertIsInstance(node.exc, ast.Call, place)
+            if isinstance(node, ast.ExceptHandler):
+                self.assertIsNotNone(node.type, place)
+                for part in ast.walk(node.type):
+                    self.assertNotIn(getattr(part, "id", ""), ("Exception", "TypeError"), place)
+
+    def test_no_sets(self):
+        for place, node in each_node():
+            self.assertNotIn(getattr(node, "id", ""), ("set", "frozenset"), place)
+
+
 if __name__ == "__main__":
     unittest.main()

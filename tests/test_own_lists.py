@@ -4,7 +4,7 @@ import unittest
 
 from restform.falling import at_falls, falls, unfolded
 from restform.polys import at, plus, put_in, times
-from tests.samples import falls_lists, figures, polynomials
+from tests.samples import falls_lists, figures, polynomials, spoil
 
 OF_ONE = [falls, unfolded]
 OF_TWO = [plus, times, put_in]
@@ -13,14 +13,6 @@ AT_A_PLACE = [at, at_falls]
 
 def pairs():
     return [(one, other) for one in polynomials() for other in polynomials()]
-
-
-def spoil(told):
-    """Change a list in every place and in its length."""
-    for k in range(len(told)):
-        told[k] += 1000
-    told.append(77)
-    told.insert(0, 78)
 
 
 class HandedIn(unittest.TestCase):
