@@ -28,12 +28,16 @@ class Rests:
         self.tops = tops_above_one(many)
 
 
-def check_form(rests, form):
-    if len(form) != len(rests.tops):
+def check_counts(counts, bounds):
+    if len(counts) != len(bounds):
         raise BadForm("a form has as many numbers as there are tops")
-    for count, top in zip(form, rests.tops):
-        if count < 0 or count >= top:
-            raise BadForm("a form's number is 0 or more and below its top")
+    for count, bound in zip(counts, bounds):
+        if count < 0 or count >= bound:
+            raise BadForm("a form's number is 0 or more and below its bound")
+
+
+def check_form(rests, form):
+    check_counts(form, rests.tops)
 
 
 def form_of(rests, some):

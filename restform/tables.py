@@ -19,6 +19,15 @@ def table(rests, form):
     return [rest_at(rests, form, x) for x in range(rests.many)]
 
 
+# The least place whose rest comes again, and the next place with it; None where all are unlike.
+def first_alike(some):
+    for x in range(len(some)):
+        for y in range(x + 1, len(some)):
+            if some[x] == some[y]:
+                return (x, y)
+    return None
+
+
 # The first number of the table, of its differences, of their differences, and so on. Of a sum of
 # falling products the k-th of them is the count of that of k, times 1 times 2 and so on up to k.
 def first_differences(some):

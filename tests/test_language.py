@@ -100,6 +100,12 @@ class Tops(unittest.TestCase):
             names = [name for node in body for part in getattr(node, "targets", [node]) for name in bound_names(part)]
             self.assertEqual(len(names), len(set(names)), path)
 
+    def test_names_of_the_top_have_plain_values(self):
+        for path in code_files():
+            for node in ast.parse(path.read_text()).body:
+                if isinstance(node, ast.Assign):
+                    ast.literal_eval(node.value)
+
     def drawn(self, path):
         """The files that a file draws from; each must define what is drawn."""
         found = []
@@ -189,6 +195,13 @@ class Code(unittest.TestCase):
                 for op, right in zip(node.ops, node.comparators):
                     if isinstance(op, (ast.Is, ast.IsNot)):
                         self.assertIn(getattr(right, "value", 0), (None, True, False), place)
+
+    def test_f_strings_hold_plain_names(self):
+        for place, node in each_node():
+            if isinstance(node, ast.FormattedValue):
+                self.assertIsInstance(node.value, ast.Name, place)
+                self.assertIsNone(node.format_spec, place)
+                self.assertIn(node.conversion, (-1, ord("r")), place)
 
     def test_walked_at_once(self):
         """What lies within reversed, and what is kept of range and its like, would be walked later."""

@@ -1,20 +1,18 @@
-"""Points 2 and 4 for forms, tables and reckoning: what is handed in and told, and what a refusal leaves behind."""
+"""Points 2 and 4 for forms, tables and reckoning."""
 
 import copy
 import unittest
 
-from restform.errors import (
-    BadForm, BadRest, BadTable, Lone, Meets, NoForm, NoText, RestError, TooGreat,
-)
+from restform.errors import BadForm, BadRest, BadTable, NoForm
 from restform.forms import Rests, form_of, parting, value
 from restform.reckon import added, form_at, many_forms, multiplied, number_of, put
 from restform.tables import bar, table, told_by
+from tests.own import MANIES, OwnChecks
 from tests.samples import (
     SIXTY, bad_forms, bad_tables, drawer, figures, plain_many_forms, plain_table, plain_tops, some_forms, spoil,
+    spoil_deep,
 )
 
-MANIES = (1, 2, 4, 6, 9, 12, 30, 48, 59, 60)
-REFUSALS = [BadRest, BadForm, BadTable, NoForm, TooGreat, NoText, Meets, Lone]
 OF_TWO_FORMS = [added, multiplied, put]
 
 
@@ -29,8 +27,9 @@ def tables_of(many):
 
 
 def calls(many):
-    """Each function here with lists that may be handed to it, made anew each time."""
-    made = []
+    """Each function here with what may be handed to it, made anew each time."""
+    last = plain_many_forms(many) - 1
+    made = [(many_forms, [])] + [(form_at, [number]) for number in (0, last, last // 2)]
     forms = some_forms(many, 41, 2)
     polys = [[], [0, 0], [0, 1], [many, 1, -1], figures(12, 7)]
     for act in (value_at_seven, table, number_of):
@@ -43,57 +42,31 @@ def calls(many):
     return copy.deepcopy(made)
 
 
-def numbers(many):
-    last = plain_many_forms(many) - 1
-    return [0, last, last // 2]
-
-
-def spoil_told(told):
-    """Change every list of what was told."""
-    if isinstance(told, list):
-        spoil(told)
-    if isinstance(told, tuple):
-        spoil(told[0])
-
-
 def refused(rests):
-    """What is refused, with its class."""
+    """What is refused, with its class and its fields."""
     many = rests.many
     form = some_forms(many, 42, 1)[2]
     some = plain_table(many, form)
     count = plain_many_forms(many)
-    made = [(BadRest, Rests, [wrong]) for wrong in (0, -1, 61, SIXTY, -SIXTY)]
+    made = [(BadRest, {}, Rests, [wrong]) for wrong in (0, -1, 61, SIXTY, -SIXTY)]
     for bad in bad_forms(many, form):
-        made += [(BadForm, act, [rests, bad]) for act in (value_at_seven, table, number_of)]
-        made += [(BadForm, act, [rests, bad, list(form)]) for act in OF_TWO_FORMS]
-        made += [(BadForm, act, [rests, list(form), bad]) for act in OF_TWO_FORMS]
-        made += [(BadForm, act, [rests, bad, bad]) for act in OF_TWO_FORMS]
+        made += [(BadForm, {}, act, [rests, bad]) for act in (value_at_seven, table, number_of)]
+        made += [(BadForm, {}, act, [rests, bad, list(form)]) for act in OF_TWO_FORMS]
+        made += [(BadForm, {}, act, [rests, list(form), bad]) for act in OF_TWO_FORMS]
+        made += [(BadForm, {}, act, [rests, bad, bad]) for act in OF_TWO_FORMS]
     for bad in bad_tables(many, some):
-        made += [(BadTable, act, [rests, bad]) for act in (told_by, bar)]
-    made += [(NoForm, form_at, [rests, wrong]) for wrong in (-1, -count, count, count + 1, 10 ** 120, -10 ** 120)]
+        made += [(BadTable, {}, act, [rests, bad]) for act in (told_by, bar)]
+    made += [(NoForm, {}, form_at, [rests, wrong]) for wrong in (-1, -count, count, count + 1, 10 ** 120, -10 ** 120)]
     return made
 
 
-class HandedIn(unittest.TestCase):
-    def test_lists_and_fields_stay(self):
-        for many in MANIES:
-            rests = Rests(many)
-            for act, lists in calls(many):
-                handed = copy.deepcopy(lists)
-                told = act(rests, *handed)
-                self.assertEqual(handed, lists)
-                self.assertFalse(any(told is some for some in handed + [rests.tops]))
-                spoil_told(told)
-                self.assertEqual(handed, lists)
-                self.assertEqual((rests.many, rests.tops), (many, plain_tops(many)))
-            for number in numbers(many):
-                told = form_at(rests, number)
-                self.assertIsNot(told, rests.tops)
-                spoil_told(told)
-            many_forms(rests)
-            self.assertEqual((rests.many, rests.tops), (many, plain_tops(many)))
-            self.assertEqual(vars(rests), {"many": many, "tops": plain_tops(many)})
+class Own(OwnChecks, unittest.TestCase):
+    calls = staticmethod(calls)
+    refused = staticmethod(refused)
+    kinds = {BadRest, BadForm, BadTable, NoForm}
 
+
+class HandedIn(unittest.TestCase):
     def test_one_list_handed_in_twice(self):
         for many in MANIES:
             rests = Rests(many)
@@ -105,21 +78,9 @@ class HandedIn(unittest.TestCase):
                     kept = copy.deepcopy(told)
                     self.assertEqual(asked, once)
                     self.assertEqual(told, act(rests, list(once), list(once)))
-                    spoil_told(told)
+                    spoil_deep(told)
                     self.assertEqual(asked, once)
                     self.assertEqual(act(rests, asked, asked), kept)
-
-    def test_changed_behind_the_call(self):
-        for many in MANIES:
-            rests = Rests(many)
-            for act, lists in calls(many):
-                handed = copy.deepcopy(lists)
-                told = act(rests, *handed)
-                kept = copy.deepcopy(told)
-                for some in handed:
-                    spoil(some)
-                self.assertEqual(told, kept)
-                self.assertEqual(act(rests, *copy.deepcopy(lists)), kept)
 
     def test_the_changed_list_is_read_anew(self):
         for many in MANIES:
@@ -170,25 +131,6 @@ class HandedIn(unittest.TestCase):
 
 
 class Told(unittest.TestCase):
-    def test_changed_before_the_same_is_asked_again(self):
-        for many in MANIES:
-            rests = Rests(many)
-            for act, lists in calls(many):
-                told = act(rests, *lists)
-                kept = copy.deepcopy(told)
-                spoil_told(told)
-                again = act(rests, *lists)
-                self.assertEqual(again, kept)
-                spoil_told(again)
-                self.assertEqual(act(rests, *copy.deepcopy(lists)), kept)
-                self.assertEqual(act(Rests(many), *copy.deepcopy(lists)), kept)
-            for number in numbers(many):
-                told = form_at(rests, number)
-                kept = list(told)
-                spoil(told)
-                self.assertEqual(form_at(rests, number), kept)
-                self.assertEqual(form_at(Rests(many), number), kept)
-
     def test_weights_of_bar_are_the_askers_own(self):
         seen = 0
         for many in MANIES:
@@ -203,18 +145,6 @@ class Told(unittest.TestCase):
                     self.assertEqual(bar(rests, some)[0], kept)
         self.assertGreater(seen, 10)
 
-    def test_nothing_asked_later_changes_it(self):
-        for many in MANIES:
-            rests = Rests(many)
-            told = [act(rests, *lists) for act, lists in calls(many)]
-            told += [form_at(rests, number) for number in numbers(many)]
-            kept = copy.deepcopy(told)
-            for act, lists in calls(many):
-                spoil_told(act(rests, *lists))
-            for number in numbers(many):
-                spoil_told(form_at(rests, number))
-            self.assertEqual(told, kept)
-
     def test_tops_of_another_one(self):
         for many in MANIES:
             one, other = Rests(many), Rests(many)
@@ -222,40 +152,6 @@ class Told(unittest.TestCase):
 
 
 class Refused(unittest.TestCase):
-    def test_by_its_own_class_and_no_other(self):
-        for many in MANIES:
-            for kind, act, asked in refused(Rests(many)):
-                with self.assertRaises(RestError) as taken:
-                    act(*asked)
-                self.assertIs(type(taken.exception), kind)
-                self.assertIsInstance(taken.exception, ValueError)
-                for other in REFUSALS:
-                    self.assertEqual(isinstance(taken.exception, other), other is kind)
-                self.assertEqual(vars(taken.exception), {})
-
-    def test_changes_nothing_that_is_handed_in(self):
-        for many in MANIES:
-            rests = Rests(many)
-            for kind, act, asked in refused(rests):
-                lists = copy.deepcopy(asked[1:])
-                with self.assertRaises(kind):
-                    act(*asked)
-                self.assertEqual(asked[1:], lists)
-                self.assertEqual(vars(rests), {"many": many, "tops": plain_tops(many)})
-
-    def test_changes_no_later_answer(self):
-        for many in MANIES:
-            fresh = [act(Rests(many), *lists) for act, lists in calls(many)]
-            rests = Rests(many)
-            for kind, act, asked in refused(rests):
-                with self.assertRaises(kind):
-                    act(*asked)
-            self.assertEqual([act(rests, *lists) for act, lists in calls(many)], fresh)
-            self.assertEqual([act(Rests(many), *lists) for act, lists in calls(many)], fresh)
-            self.assertEqual(many_forms(rests), plain_many_forms(many))
-            for number in numbers(many):
-                self.assertEqual(number_of(rests, form_at(rests, number)), number)
-
     def test_refused_again_and_again(self):
         rests = Rests(4)
         for step in range(3):
